@@ -6,6 +6,7 @@ import (
 	"testing"
 
 	"raftsman/api"
+	"raftsman/spread"
 )
 
 // p is written in digits, so that a wrong api.P would be told, too.
@@ -247,13 +248,8 @@ func TestHashesInTwoParts(t *testing.T) {
 
 // mixed are words all over the 64 bits, the same ones in every run, some of which are passed over.
 func mixed(many int) []uint64 {
-	list := make([]uint64, many)
-	word := uint64(0x9e3779b97f4a7c15)
-	for i := range list {
-		word ^= word << 13
-		word ^= word >> 7
-		word ^= word << 17
-		list[i] = word
+	list := spread.Words(many)
+	for i, word := range list {
 		if word%5 == 0 {
 			list[i] |= p
 		}

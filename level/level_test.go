@@ -6,6 +6,7 @@ import (
 	"testing"
 
 	"raftsman/api"
+	"raftsman/spread"
 )
 
 // p is written in digits, so that a wrong api.P would be told, too.
@@ -20,23 +21,10 @@ func leftOver(h api.Hash, name uint64) uint64 {
 
 func toBig(n uint64) *big.Int { return new(big.Int).SetUint64(n) }
 
-// spread are numbers all over the 64 bits, the same ones in every run.
-func spread(many int) []uint64 {
-	list := make([]uint64, many)
-	n := uint64(0x9e3779b97f4a7c15)
-	for i := range list {
-		n ^= n << 13
-		n ^= n >> 7
-		n ^= n << 17
-		list[i] = n
-	}
-	return list
-}
-
 // samples are the places where values wrap round, and some between.
 func samples() []uint64 {
 	list := []uint64{0, 1, 2, 3, 5, 1 << 24, 50331653, 1<<32 - 1, 1 << 32, 1 << 48, 1 << 60, p - 2, p - 1, p, p + 1, p + 2, 1 << 62, 2*p - 1, 2 * p, 2*p + 1, 1 << 63, 8 * p, math.MaxUint64}
-	return append(list, spread(12)...)
+	return append(list, spread.Words(12)...)
 }
 
 // bounds are those of all levels, halved one by one.
@@ -218,7 +206,7 @@ func TestDeepOfAllKinds(t *testing.T) {
 	for _, a := range samples() {
 		for _, b := range samples() {
 			h := api.Hash{A: a, B: b}
-			for i, name := range spread(9) {
+			for i, name := range spread.Words(9) {
 				// Small names and hashes go deep, others don't.
 				n := name >> (7 * i)
 				for _, levels := range []int{-1, 0, 1, 2, 8, 22, 60, 61, 62} {
@@ -349,7 +337,7 @@ func TestEachValueIsThatOfOneNumber(t *testing.T) {
 
 // P4.2: numbers beside one another have unlike values, too.
 func TestValuesOfManyNumbersAreUnlike(t *testing.T) {
-	for _, h := range []api.Hash{{A: 1}, {A: 2, B: 1 << 60}, {A: 1 << 60, B: 3}, {A: p - 1, B: p - 1}, {A: spread(1)[0], B: 5}} {
+	for _, h := range []api.Hash{{A: 1}, {A: 2, B: 1 << 60}, {A: 1 << 60, B: 3}, {A: p - 1, B: p - 1}, {A: spread.Words(1)[0], B: 5}} {
 		names := map[uint64]uint64{}
 		for n := range uint64(2000) {
 			for _, name := range []uint64{n, p - 1 - n} {

@@ -6,6 +6,7 @@ import (
 	"testing"
 
 	"raftsman/api"
+	"raftsman/spread"
 )
 
 // bigP is written in digits, so that a wrong api.P would be told, too.
@@ -31,20 +32,7 @@ func edges() []uint64 {
 	return list
 }
 
-// spread are numbers all over the 64 bits, the same ones in every run.
-func spread(many int) []uint64 {
-	list := make([]uint64, many)
-	n := uint64(0x9e3779b97f4a7c15)
-	for i := range list {
-		n ^= n << 13
-		n ^= n >> 7
-		n ^= n << 17
-		list[i] = n
-	}
-	return list
-}
-
-func samples() []uint64 { return append(edges(), spread(60)...) }
+func samples() []uint64 { return append(edges(), spread.Words(60)...) }
 
 func check(t *testing.T, what string, got, want uint64, args ...uint64) {
 	t.Helper()
@@ -204,7 +192,7 @@ func TestLawsOfAField(t *testing.T) {
 
 // P1.3: what holds of each three.
 func TestLawsOfThreeNumbers(t *testing.T) {
-	few := append(edges(), spread(10)...)
+	few := append(edges(), spread.Words(10)...)
 	for _, a := range few {
 		for _, b := range few {
 			for _, c := range few {

@@ -6,6 +6,7 @@ import (
 	"testing"
 
 	"raftsman/api"
+	"raftsman/spread"
 )
 
 // half and last are written in digits, so that a wrong api.Half would be told, too.
@@ -147,7 +148,7 @@ func TestNamesGoWithEnds(t *testing.T) {
 // P3.3: of numbers of all kinds those that are names are the names of their ends.
 func TestEndsGoWithNames(t *testing.T) {
 	many := 0
-	for i, word := range spread(3000) {
+	for i, word := range spread.Words(3000) {
 		// Fewer bits have more names among them.
 		n := word >> (i % 40)
 		if u, v, ok := Ends(n); ok {
@@ -174,19 +175,6 @@ func TestEndsOfAllSmallNames(t *testing.T) {
 			checkEnds(t, u*half+v, ends[0], ends[1], there)
 		}
 	}
-}
-
-// spread are numbers all over the 64 bits, the same ones in every run.
-func spread(many int) []uint64 {
-	list := make([]uint64, many)
-	n := uint64(0x9e3779b97f4a7c15)
-	for i := range list {
-		n ^= n << 13
-		n ^= n >> 7
-		n ^= n << 17
-		list[i] = n
-	}
-	return list
 }
 
 // P3.2
@@ -280,7 +268,7 @@ func TestSortOfFew(t *testing.T) {
 // mixed are so many edges, by the Tier at their places, among few ends, so that many are alike.
 func mixed(many, ends int) []api.Edge {
 	list := make([]api.Edge, many)
-	for i, word := range spread(many) {
+	for i, word := range spread.Words(many) {
 		list[i] = api.Edge{U: int(word>>8) % ends, V: int(word>>32) % ends, Tier: i}
 	}
 	return list

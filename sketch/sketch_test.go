@@ -7,28 +7,16 @@ import (
 	"testing"
 
 	"raftsman/api"
+	"raftsman/spread"
 )
 
 // p is written in digits, so that a wrong api.P would be told, too.
 const p = 2305843009213693951
 
-// spread are numbers all over the 64 bits, the same ones in every run.
-func spread(many int) []uint64 {
-	list := make([]uint64, many)
-	n := uint64(0x9e3779b97f4a7c15)
-	for i := range list {
-		n ^= n << 13
-		n ^= n >> 7
-		n ^= n << 17
-		list[i] = n
-	}
-	return list
-}
-
 // rows are r hashes all over the numbers below P.
 func rows(r int) []api.Hash {
 	list := make([]api.Hash, r)
-	words := spread(2 * r)
+	words := spread.Words(2 * r)
 	for i := range list {
 		list[i] = api.Hash{A: words[2*i] % p, B: words[2*i+1] % p}
 	}
@@ -52,7 +40,7 @@ func edges() []uint64 {
 // numbers are names of edges, and such as are no edge's.
 func numbers() []uint64 {
 	list := append(edges(), 0, edge(1, 0), edge(7, 7), 1<<48, 1<<60, p-1, p, p+1, 1<<63, math.MaxUint64)
-	return append(list, spread(9)...)
+	return append(list, spread.Words(9)...)
 }
 
 func toBig(n uint64) *big.Int { return new(big.Int).SetUint64(n) }
@@ -204,7 +192,7 @@ func TestNewSharesNoWords(t *testing.T) {
 func TestRight(t *testing.T) {
 	for r := 1; r <= 8; r++ {
 		for v := 1; v <= 61; v++ {
-			if s := (Sketch{R: r, V: v, Words: spread(r * v)}); !Right(s) {
+			if s := (Sketch{R: r, V: v, Words: spread.Words(r * v)}); !Right(s) {
 				t.Errorf("%d rows of %d levels are no sketch", r, v)
 			}
 			for _, many := range []int{0, 1, r, v, r*v - 1, r*v + 1, 2 * r * v} {
@@ -344,7 +332,7 @@ func TestToggleOfWhatIsNoSketch(t *testing.T) {
 // P5.1
 func TestToggleByTooFewOrTooManyHashes(t *testing.T) {
 	for r := 1; r <= 8; r++ {
-		s := Sketch{R: r, V: 3, Words: spread(3 * r)}
+		s := Sketch{R: r, V: 3, Words: spread.Words(3 * r)}
 		for many := range 30 {
 			if many != r {
 				checkToggleFails(t, s, rows(many))
@@ -359,10 +347,10 @@ func TestToggleByTooFewOrTooManyHashes(t *testing.T) {
 
 // P5.1, R1: what is handed in stays as it was, and so do the words behind it.
 func TestToggleLeavesWhatIsHandedIn(t *testing.T) {
-	words, l := spread(9), rows(4)
+	words, l := spread.Words(9), rows(4)
 	s := Sketch{R: 2, V: 3, Words: words[:6]}
 	got := with(t, s, l[:2], edge(3, 5))
-	if slices.Equal(got.Words, s.Words) || !slices.Equal(words, spread(9)) || !slices.Equal(l, rows(4)) {
+	if slices.Equal(got.Words, s.Words) || !slices.Equal(words, spread.Words(9)) || !slices.Equal(l, rows(4)) {
 		t.Errorf("Toggle: %v of %v by %v", got, words, l)
 	}
 	want := slices.Clone(got.Words)
@@ -385,7 +373,7 @@ func TestMergeByHand(t *testing.T) {
 func TestMergeOfAllSizes(t *testing.T) {
 	for r := 1; r <= 8; r++ {
 		for v := 1; v <= 61; v++ {
-			words := spread(2 * r * v)
+			words := spread.Words(2 * r * v)
 			var want []uint64
 			for i := range r * v {
 				want = append(want, words[i]^words[r*v+i])
@@ -425,10 +413,10 @@ func TestMergeOfUnlikeSizes(t *testing.T) {
 
 // P5.2, R1
 func TestMergeLeavesWhatIsHandedIn(t *testing.T) {
-	words := spread(14)
+	words := spread.Words(14)
 	a, b := Sketch{R: 2, V: 3, Words: words[:6]}, Sketch{R: 2, V: 3, Words: words[7:13]}
 	m := merged(t, a, b)
-	if !slices.Equal(words, spread(14)) {
+	if !slices.Equal(words, spread.Words(14)) {
 		t.Errorf("Merge: %v", words)
 	}
 	want := slices.Clone(m.Words)
