@@ -112,81 +112,8 @@ func all(n int) []marks {
 	return list
 }
 
-// lists are all lists of n numbers from first to last.
-func lists(n, first, last int) [][]int {
-	list := [][]int{nil}
-	for range n {
-		var longer [][]int
-		for _, l := range list {
-			for x := first; x <= last; x++ {
-				longer = append(longer, slices.Concat(l, []int{x}))
-			}
-		}
-		list = longer
-	}
-	return list
-}
-
-// spots are numbers of which some are vertices of n, and some are none.
-func spots(n int) []int {
-	return []int{math.MinInt, math.MinInt32, -n - 1, -n, -2, -1, 0, 1, n / 2, n - 2, n - 1, n, n + 1, 2 * n, 1 << 32, 1<<32 + 1, math.MaxInt}
-}
-
 // beside: is v none of n vertices?
 func beside(n, v int) bool { return v < 0 || v >= n }
-
-// mixed are that many edges between n vertices, some of them from a vertex to itself.
-func mixed(n, many int) []api.Edge {
-	l := make([]api.Edge, many)
-	for i, w := range spread.Words(many) {
-		l[i] = api.Edge{U: int(w >> 8 % uint64(n)), V: int(w >> 33 % uint64(n)), Tier: i - 3}
-	}
-	return l
-}
-
-// path are the edges from each vertex to the next one, from the first one up.
-func path(n int) []api.Edge {
-	var l []api.Edge
-	for v := 1; v < n; v++ {
-		l = append(l, api.Edge{U: v - 1, V: v})
-	}
-	return l
-}
-
-// turned are the edges the other way round: their order, and the ends of each.
-func turned(l []api.Edge) []api.Edge {
-	l = slices.Clone(l)
-	slices.Reverse(l)
-	for i, e := range l {
-		l[i].U, l[i].V = e.V, e.U
-	}
-	return l
-}
-
-// shapes are edges of n vertices, n above 2: none, paths, stars, pairs, rings, trees that branch by 2, and ones that come mixed.
-func shapes(n int) [][]api.Edge {
-	var star, last, pairs, tree, loops []api.Edge
-	for v := range n {
-		loops = append(loops, api.Edge{U: v, V: v})
-		if v > 0 {
-			star = append(star, api.Edge{U: 0, V: v})
-			last = append(last, api.Edge{U: n - 1, V: v - 1})
-			tree = append(tree, api.Edge{U: (v - 1) / 2, V: v})
-		}
-		if v < n-1-v {
-			pairs = append(pairs, api.Edge{U: v, V: n - 1 - v})
-		}
-	}
-	ring := append(path(n), api.Edge{U: n - 1, V: 0})
-	list := [][]api.Edge{nil, path(n), star, last, pairs, tree, loops, ring, path(n)[:n/2], path(n)[n/2:]}
-	for _, many := range []int{1, n / 4, n / 2, n, 2 * n} {
-		list = append(list, mixed(n, many))
-	}
-	for _, l := range slices.Clone(list) {
-		list = append(list, turned(l))
-	}
-	return list
-}
 
 // noPartitions are lists that are none, and all that is wrong with each is in one place.
 func noPartitions() [][]int {
@@ -297,7 +224,7 @@ func checkPartition(t *testing.T, m marks) {
 		checkClass(t, p, v, m.class(v))
 		checkJoin(t, p, v, v, p)
 	}
-	for _, v := range spots(n) {
+	for _, v := range spread.Spots(n) {
 		if beside(n, v) {
 			checkClass(t, p, v, nil)
 			checkJoin(t, p, v, 0, p)
@@ -318,9 +245,9 @@ func checkNoPartition(t *testing.T, p []int) {
 	checkRefines(t, right, p, false)
 	checkRefines(t, p, make([]int, len(p)), false)
 	checkRefines(t, make([]int, len(p)), p, false)
-	for _, u := range spots(len(p)) {
+	for _, u := range spread.Spots(len(p)) {
 		checkClass(t, p, u, nil)
-		for _, v := range spots(len(p)) {
+		for _, v := range spread.Spots(len(p)) {
 			checkJoin(t, p, u, v, p)
 		}
 	}
@@ -362,7 +289,7 @@ func TestAllShortLists(t *testing.T) {
 			checkPartition(t, m)
 		}
 		found := 0
-		for _, p := range lists(n, -1, n) {
+		for _, p := range spread.Lists(n, -1, n) {
 			is := slices.ContainsFunc(right, func(q []int) bool { return slices.Equal(p, q) })
 			checkRight(t, p, is)
 			if is {
@@ -480,15 +407,15 @@ func TestOfTooManyVertices(t *testing.T) {
 // P9.1: an end that is none of the n, as U or as V, ahead of other edges or behind them.
 func TestOfEndsThatAreNotThere(t *testing.T) {
 	for _, n := range []int{0, 1, 2, 5, maxN} {
-		for _, v := range spots(n) {
+		for _, v := range spread.Spots(n) {
 			if !beside(n, v) {
 				continue
 			}
 			for _, e := range []api.Edge{{U: v, V: 0}, {U: 0, V: v}, {U: v, V: n - 1}, {U: n - 1, V: v}, {U: v, V: v}, {U: v, V: n}} {
 				checkOf(t, n, []api.Edge{e}, nil, api.ErrArg)
 				if n > 1 {
-					checkOf(t, n, append(path(n), e), nil, api.ErrArg)
-					checkOf(t, n, append([]api.Edge{e}, path(n)...), nil, api.ErrArg)
+					checkOf(t, n, append(spread.Path(n), e), nil, api.ErrArg)
+					checkOf(t, n, append([]api.Edge{e}, spread.Path(n)...), nil, api.ErrArg)
 				}
 			}
 		}
@@ -505,7 +432,7 @@ func TestOfAllShortListsOfEdges(t *testing.T) {
 			}
 		}
 		for many := range 4 {
-			for _, l := range lists(many, 0, len(edges)-1) {
+			for _, l := range spread.Lists(many, 0, len(edges)-1) {
 				chosen := make([]api.Edge, many)
 				for i, at := range l {
 					chosen[i] = edges[at]
@@ -533,27 +460,27 @@ func TestOfAllSmallGraphs(t *testing.T) {
 		}
 		want := linked(5, l).list()
 		checkOf(t, 5, l, want, api.OK)
-		checkOf(t, 5, turned(l), want, api.OK)
+		checkOf(t, 5, spread.Turned(l), want, api.OK)
 	}
 }
 
 // P9.1, P9.2
 func TestOfBigGraphs(t *testing.T) {
 	for _, n := range []int{3, 10, 64, 65, 300} {
-		for _, l := range shapes(n) {
+		for _, l := range spread.Shapes(n) {
 			m := linked(n, l)
 			checkOf(t, n, l, m.list(), api.OK)
 			checkPartition(t, m)
 		}
 	}
-	for _, l := range shapes(maxN) {
+	for _, l := range spread.Shapes(maxN) {
 		checkOf(t, maxN, l, linked(maxN, l).list(), api.OK)
 	}
 }
 
 // P9.1: edges as many as there may come, of all vertices, end.
 func TestOfVeryManyEdges(t *testing.T) {
-	l := slices.Repeat(turned(path(maxN)), 2000)
+	l := slices.Repeat(spread.Turned(spread.Path(maxN)), 2000)
 	checkEnd(t, l, make([]int, maxN))
 	checkEnd(t, slices.Repeat([]api.Edge{{U: maxN - 1, V: maxN - 2}}, 2000000), append(apart(maxN-1).list(), maxN-2))
 }
@@ -700,7 +627,7 @@ func TestJoinOfAllSmallPartitions(t *testing.T) {
 
 // P9.2
 func TestJoinOfBigPartitions(t *testing.T) {
-	for _, l := range shapes(40) {
+	for _, l := range spread.Shapes(40) {
 		checkJoinOfAll(t, linked(40, l))
 	}
 }
@@ -708,7 +635,7 @@ func TestJoinOfBigPartitions(t *testing.T) {
 // P9.3: from edge to edge there is less to tell apart, and each is a Join.
 func TestOneEdgeMore(t *testing.T) {
 	for _, n := range []int{3, 9, 60} {
-		for _, l := range shapes(n) {
+		for _, l := range spread.Shapes(n) {
 			before, _ := Of(n, nil)
 			for i, e := range l {
 				behind, err := Of(n, l[:i+1])
@@ -729,7 +656,7 @@ func TestOneEdgeMore(t *testing.T) {
 func TestFewerEdges(t *testing.T) {
 	words := spread.Words(2000)
 	for _, n := range []int{5, 30, 200} {
-		for _, l := range shapes(n) {
+		for _, l := range spread.Shapes(n) {
 			p, _ := Of(n, l)
 			for skip := 2; skip < 5; skip++ {
 				var fewer []api.Edge
@@ -752,11 +679,11 @@ func TestFewerEdges(t *testing.T) {
 // P9.3: in which order edges come, and which end of each is U, does not matter.
 func TestOrderOfEdges(t *testing.T) {
 	for _, n := range []int{3, 9, 60, 500} {
-		for _, l := range shapes(n) {
+		for _, l := range spread.Shapes(n) {
 			p, _ := Of(n, l)
-			checkOf(t, n, turned(l), p, api.OK)
+			checkOf(t, n, spread.Turned(l), p, api.OK)
 			checkOf(t, n, slices.Concat(l[len(l)/3:], l[:len(l)/3]), p, api.OK)
-			checkOf(t, n, slices.Concat(l, turned(l)), p, api.OK)
+			checkOf(t, n, slices.Concat(l, spread.Turned(l)), p, api.OK)
 		}
 	}
 }
