@@ -56,11 +56,6 @@ func (m model) rising() []Pair {
 	return list
 }
 
-// edges are keys at the edges of what 32, 63 and 64 bits hold.
-func edges() []uint64 {
-	return []uint64{0, 1, 2, math.MaxInt32, 1 << 31, math.MaxUint32, 1 << 32, 1<<32 + 1, math.MaxInt64 - 1, math.MaxInt64, 1 << 63, 1<<63 + 1, math.MaxUint64 - 1, math.MaxUint64}
-}
-
 // numbers are what may stand by a key, 0 and numbers below it among them.
 func numbers() []int {
 	return []int{0, 1, -1, 7, math.MinInt, math.MaxInt, math.MinInt32, 1 << 32, -1 << 32}
@@ -152,7 +147,7 @@ func checkFrom(t *testing.T, d Dict, key uint64, want int) {
 func check(t *testing.T, d Dict, m model) {
 	t.Helper()
 	checkPairs(t, d, m.rising()...)
-	asked := edges()
+	asked := spread.Ends()
 	for _, p := range m {
 		asked = append(asked, p.Key-1, p.Key, p.Key+1)
 	}
@@ -240,7 +235,7 @@ func TestNoKeys(t *testing.T) {
 		if h := Height(d); h != 0 {
 			t.Errorf("Height: %d", h)
 		}
-		for _, key := range edges() {
+		for _, key := range spread.Ends() {
 			checkDelete(t, d, nil, key)
 			for _, n := range numbers() {
 				checkPut(t, d, nil, key, n)
@@ -251,12 +246,12 @@ func TestNoKeys(t *testing.T) {
 
 // P7.1, P7.2: one key, and one beside it, of all that stand at the edges.
 func TestKeysAtTheEdges(t *testing.T) {
-	for _, a := range edges() {
-		for _, b := range edges() {
+	for _, a := range spread.Ends() {
+		for _, b := range spread.Ends() {
 			m := model{}.put(a, 3).put(b, -4)
 			d := of(Pair{a, 3}, Pair{b, -4})
 			check(t, d, m)
-			for _, key := range edges() {
+			for _, key := range spread.Ends() {
 				checkDelete(t, d, m, key)
 				checkPut(t, d, m, key, 9)
 			}
@@ -396,7 +391,7 @@ func TestPairsAreNewMemory(t *testing.T) {
 func TestLastNumberTillItIsDeleted(t *testing.T) {
 	last := map[uint64]int{}
 	var d Dict
-	ends := edges()
+	ends := spread.Ends()
 	for i, w := range spread.Words(3000) {
 		key := ends[w>>40%uint64(len(ends))] + w>>20%4
 		if w%5 < 2 {

@@ -18,11 +18,6 @@ func beside(n int) []int {
 	return slices.DeleteFunc(spread.Spots(n), func(v int) bool { return 0 <= v && v < n })
 }
 
-// wrongSizes are no numbers of vertices.
-func wrongSizes() []int {
-	return []int{-1, -2, -maxN, math.MinInt32, math.MinInt, maxN + 1, maxN + 2, 2 * maxN, 1 << 31, 1 << 32, 1<<32 + 1, math.MaxInt}
-}
-
 // reached are the vertices that edges lead to from v, rising: all edges are gone through till nothing new comes.
 func reached(n int, l []api.Edge, v int) []int {
 	there := make([]bool, n)
@@ -297,7 +292,7 @@ func TestSizes(t *testing.T) {
 	checkPath(t, maxN, l, 0, maxN-1, l, api.OK)
 	checkPath(t, maxN, l, maxN-1, maxN-3, []api.Edge{l[maxN-2], l[maxN-3]}, api.OK)
 	checkTree(t, maxN, l, maxN-1, whole)
-	for _, n := range wrongSizes() {
+	for _, n := range spread.WrongSizes() {
 		for _, l := range [][]api.Edge{nil, {{U: 0, V: 1}}, {{U: -1, V: 0}}, {{U: 0, V: 1}, {U: 1, V: 0}}, spread.Path(maxN)} {
 			checkNoForest(t, n, l)
 			checkSpanning(t, n, l, nil, api.ErrArg)

@@ -396,7 +396,7 @@ func TestOfEdgesFromAVertexToItself(t *testing.T) {
 
 // P9.1: how many vertices there may be; with edges whose ends would be there, or would not.
 func TestOfTooManyVertices(t *testing.T) {
-	for _, n := range []int{-1, -2, -maxN, math.MinInt32, math.MinInt, maxN + 1, maxN + 2, 2 * maxN, 1 << 31, 1 << 32, 1<<32 + 1, math.MaxInt} {
+	for _, n := range spread.WrongSizes() {
 		checkOf(t, n, nil, nil, api.ErrArg)
 		checkOf(t, n, []api.Edge{{U: 0, V: 1}}, nil, api.ErrArg)
 		checkOf(t, n, []api.Edge{{U: -1, V: 0}}, nil, api.ErrArg)

@@ -1,4 +1,4 @@
-// Package spread has what the other packages' tests try: words, lists of numbers, edges.
+// Package spread has what the other packages' tests try: words, numbers at the edges, lists of numbers, edges.
 package spread
 
 import (
@@ -37,4 +37,17 @@ func Lists(n, first, last int) [][]int {
 // Spots are numbers of which some are vertices of n, and some are none.
 func Spots(n int) []int {
 	return []int{math.MinInt, math.MinInt32, -n - 1, -n, -2, -1, 0, 1, n / 2, n - 2, n - 1, n, n + 1, 2 * n, 1 << 32, 1<<32 + 1, math.MaxInt}
+}
+
+// maxN is written in digits, so that a wrong api.MaxN would be told, too.
+const maxN = 1024
+
+// WrongSizes are no numbers of vertices.
+func WrongSizes() []int {
+	return []int{-1, -2, -maxN, math.MinInt32, math.MinInt, maxN + 1, maxN + 2, 2 * maxN, 1 << 31, 1 << 32, 1<<32 + 1, math.MaxInt}
+}
+
+// Ends are numbers at the edges of what 32, 63 and 64 bits hold.
+func Ends() []uint64 {
+	return []uint64{0, 1, 2, math.MaxInt32, 1 << 31, math.MaxUint32, 1 << 32, 1<<32 + 1, math.MaxInt64 - 1, math.MaxInt64, 1 << 63, 1<<63 + 1, math.MaxUint64 - 1, math.MaxUint64}
 }
