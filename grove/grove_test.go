@@ -13,11 +13,6 @@ import (
 // maxN is written in digits, so that a wrong api.MaxN would be told, too.
 const maxN = 1024
 
-// beside are numbers that are none of n vertices.
-func beside(n int) []int {
-	return slices.DeleteFunc(spread.Spots(n), func(v int) bool { return 0 <= v && v < n })
-}
-
 // reached are the vertices that edges lead to from v, rising: all edges are gone through till nothing new comes.
 func reached(n int, l []api.Edge, v int) []int {
 	there := make([]bool, n)
@@ -79,22 +74,17 @@ func spanned(n int, l []api.Edge) []api.Edge {
 	return list
 }
 
-// loose are edges in a list that has room behind them, that is nobody's to write into.
-func loose(l []api.Edge) []api.Edge {
-	return append(slices.Clone(l), api.Edge{U: 70, V: 80, Tier: 90}, api.Edge{U: 71, V: 81, Tier: 91})[:len(l)]
-}
-
 // checkAsItWas looks at what was handed in, and behind it.
 func checkAsItWas(t *testing.T, l, kept []api.Edge) {
 	t.Helper()
-	if !slices.Equal(l, kept) || !slices.Equal(l[:len(l)+2], loose(kept)[:len(kept)+2]) {
+	if !spread.AsItWas(l, kept) {
 		t.Errorf("the edges became %v, they were %v", l[:len(l)+2], kept)
 	}
 }
 
 func checkRight(t *testing.T, n int, kept []api.Edge, want bool) {
 	t.Helper()
-	l := loose(kept)
+	l := spread.Loose(kept)
 	if got := Right(n, l); got != want {
 		t.Errorf("Right(%d, %v): %v", n, kept, got)
 	}
@@ -103,7 +93,7 @@ func checkRight(t *testing.T, n int, kept []api.Edge, want bool) {
 
 func checkPath(t *testing.T, n int, kept []api.Edge, u, v int, want []api.Edge, err api.Errno) {
 	t.Helper()
-	l := loose(kept)
+	l := spread.Loose(kept)
 	path, e := Path(n, l, u, v)
 	if e != err || !slices.Equal(path, want) {
 		t.Errorf("Path(%d, %v, %d, %d): %v, %d, want %v, %d", n, kept, u, v, path, e, want, err)
@@ -113,7 +103,7 @@ func checkPath(t *testing.T, n int, kept []api.Edge, u, v int, want []api.Edge, 
 
 func checkTree(t *testing.T, n int, kept []api.Edge, v int, want []int) {
 	t.Helper()
-	l := loose(kept)
+	l := spread.Loose(kept)
 	if got := Tree(n, l, v); !slices.Equal(got, want) {
 		t.Errorf("Tree(%d, %v, %d): %v, want %v", n, kept, v, got, want)
 	}
@@ -122,7 +112,7 @@ func checkTree(t *testing.T, n int, kept []api.Edge, v int, want []int) {
 
 func checkGreatest(t *testing.T, kept []api.Edge, want api.Edge, there bool) {
 	t.Helper()
-	l := loose(kept)
+	l := spread.Loose(kept)
 	if got, ok := Greatest(l); got != want || ok != there {
 		t.Errorf("Greatest(%v): %v, %v, want %v, %v", kept, got, ok, want, there)
 	}
@@ -131,7 +121,7 @@ func checkGreatest(t *testing.T, kept []api.Edge, want api.Edge, there bool) {
 
 func checkSpanning(t *testing.T, n int, kept, want []api.Edge, err api.Errno) {
 	t.Helper()
-	l := loose(kept)
+	l := spread.Loose(kept)
 	got, e := Spanning(n, l)
 	if e != err || !slices.Equal(got, want) {
 		t.Errorf("Spanning(%d, %v): %v, %d, want %v, %d", n, kept, got, e, want, err)
@@ -155,7 +145,7 @@ func checkForest(t *testing.T, n int, l []api.Edge) {
 			}
 		}
 	}
-	for _, v := range beside(n) {
+	for _, v := range spread.Beside(n) {
 		checkTree(t, n, l, v, nil)
 		checkPath(t, n, l, v, v, nil, api.ErrArg)
 		checkPath(t, n, l, v, 0, nil, api.ErrArg)
@@ -363,7 +353,7 @@ func TestWaysRound(t *testing.T) {
 // P10.1, P10.2: an end that is no vertex, as U or as V, ahead of other edges or behind them.
 func TestEndsThatAreNoVertices(t *testing.T) {
 	for _, n := range []int{1, 2, 5, maxN} {
-		for _, v := range beside(n) {
+		for _, v := range spread.Beside(n) {
 			for _, e := range []api.Edge{{U: v, V: 0}, {U: 0, V: v}, {U: v, V: n - 1}, {U: n - 1, V: v}, {U: v, V: v}, {U: v, V: n}} {
 				for _, l := range [][]api.Edge{{e}, append(spread.Path(n), e), slices.Concat([]api.Edge{e}, spread.Path(n))} {
 					checkRight(t, n, l, false)
@@ -413,25 +403,12 @@ func TestAllShortListsOfEdges(t *testing.T) {
 	}
 }
 
-// graphs are all sets of edges of n vertices, in the order of their ends.
-func graphs(n int) [][]api.Edge {
-	list := [][]api.Edge{nil}
-	for u := range n {
-		for v := u + 1; v < n; v++ {
-			for _, l := range slices.Clone(list) {
-				list = append(list, slices.Concat(l, []api.Edge{{U: u, V: v, Tier: len(l)}}))
-			}
-		}
-	}
-	return list
-}
-
 // P10.1, P10.2: of all graphs of up to five vertices as many are forests as there are.
 func TestAllSmallGraphs(t *testing.T) {
 	forests := []int{1, 1, 2, 7, 38, 291}
 	for n := range 6 {
 		found := 0
-		for _, l := range graphs(n) {
+		for _, l := range spread.Graphs(n) {
 			checkEdges(t, n, l)
 			checkEdges(t, n, spread.Turned(l))
 			if Right(n, l) {
@@ -611,7 +588,7 @@ func TestSpanningConnectsTheSame(t *testing.T) {
 		}
 	}
 	for n := range 6 {
-		for _, l := range graphs(n) {
+		for _, l := range spread.Graphs(n) {
 			spanning, _ := Spanning(n, l)
 			checkConnectsTheSame(t, n, l, spanning)
 		}
@@ -647,7 +624,7 @@ func checkExchange(t *testing.T, n int, l []api.Edge, u, v int) {
 // P10.3: with an edge of a path gone, and one between its ends in its place, a forest connects the same.
 func TestExchange(t *testing.T) {
 	for n := range 6 {
-		for _, l := range graphs(n) {
+		for _, l := range spread.Graphs(n) {
 			if !Right(n, l) {
 				continue
 			}
@@ -681,8 +658,8 @@ func wipe[T any](l []T, x T) {
 func TestAnswersAreNewMemory(t *testing.T) {
 	none := api.Edge{U: -1000, V: -1000, Tier: -1000}
 	for n := range 5 {
-		for _, kept := range graphs(n) {
-			l := loose(kept)
+		for _, kept := range spread.Graphs(n) {
+			l := spread.Loose(kept)
 			spanning, _ := Spanning(n, l)
 			wipe(spanning, none)
 			checkAsItWas(t, l, kept)

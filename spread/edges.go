@@ -58,3 +58,27 @@ func Shapes(n int) [][]api.Edge {
 	}
 	return list
 }
+
+// Graphs are all sets of edges of n vertices, in the order of their ends, the Tier of each how many stand ahead of it.
+func Graphs(n int) [][]api.Edge {
+	list := [][]api.Edge{nil}
+	for u := range n {
+		for v := u + 1; v < n; v++ {
+			for _, l := range slices.Clone(list) {
+				list = append(list, slices.Concat(l, []api.Edge{{U: u, V: v, Tier: len(l)}}))
+			}
+		}
+	}
+	return list
+}
+
+// Loose are edges in a list that has room behind them, that is nobody's to write into.
+func Loose(l []api.Edge) []api.Edge {
+	return append(slices.Clone(l), api.Edge{U: 70, V: 80, Tier: 90}, api.Edge{U: 71, V: 81, Tier: 91})[:len(l)]
+}
+
+// AsItWas tells whether a Loose list is still as kept is, and what is behind it as it was.
+func AsItWas(l, kept []api.Edge) bool {
+	many := len(kept) + 2
+	return len(l) == len(kept) && slices.Equal(l[:many], Loose(kept)[:many])
+}

@@ -39,6 +39,11 @@ func Spots(n int) []int {
 	return []int{math.MinInt, math.MinInt32, -n - 1, -n, -2, -1, 0, 1, n / 2, n - 2, n - 1, n, n + 1, 2 * n, 1 << 32, 1<<32 + 1, math.MaxInt}
 }
 
+// Beside are those of Spots that are none of n vertices.
+func Beside(n int) []int {
+	return slices.DeleteFunc(Spots(n), func(v int) bool { return 0 <= v && v < n })
+}
+
 // maxN is written in digits, so that a wrong api.MaxN would be told, too.
 const maxN = 1024
 
